@@ -1,0 +1,1 @@
+"""Sumwires: nets of sums and one-turn stores."""
