@@ -32,6 +32,15 @@ WORDS_OUT = set("""type typing typing_extensions enum Enum IntEnum StrEnum Flag 
     namedtuple NamedTuple TypedDict TYPE_CHECKING abstractmethod""".split())
 PARTS_OUT = ("dataclass", "overload", "contextmanager")
 NAMES_OUT = set("""register mro elements open input version_info with_traceback add_note""".split())
+PLAIN_NAMES_OUT = set("""attrgetter breakpoint builtins compile copyright credits delattr dir eval exec exit gc getattr
+    globals hasattr help id importlib license locals methodcaller os quit setattr super type vars sys""".split())
+WALKED = ("zip", "enumerate", "reversed", "range", "items", "keys", "values")
+WALKERS = ("list", "tuple", "dict", "sorted", "sum", "any", "all", "enumerate", "zip", "min", "max")
+KEYWORDS = {"sorted": ("key", "reverse"), "min": ("key", "default"), "max": ("key", "default"), "sum": ("start",),
+            "enumerate": ("start",), "zip": ("strict",)}
+VALUES_OUT = set("""items keys values pop update append clear extend insert remove reverse setdefault sort args encode
+    format""".split())
+VALUES_IN = set("count index title find get join lower upper split strip copy add".split())
 
 
 def files():
@@ -187,6 +196,115 @@ class CodeTest(unittest.TestCase):
         for name, node in nodes(ast.ListComp):
             self.assertEqual(len(node.generators), 1, (name, node.lineno))
             self.assertLessEqual(len(node.generators[0].ifs), 1, (name, node.lineno))
+
+    def test_names_at_the_top_are_bound_once(self):
+        for name, tree in trees().items():
+            bound = [alias.name for node in tree.body if isinstance(node, ast.ImportFrom) for alias in node.names]
+            bound += [node.name for node in tree.body if isinstance(node, (ast.FunctionDef, ast.ClassDef))]
+            bound += [target.id for node in tree.body if isinstance(node, ast.Assign) for target in node.targets]
+            self.assertEqual(len(bound), len(set(bound)), name)
+
+    def test_lists_and_dicts_at_the_top_hold_none(self):
+        for name, tree in trees().items():
+            for node in tree.body:
+                if isinstance(node, ast.Assign):
+                    inner = [part for part in ast.walk(node.value) if isinstance(part, (ast.List, ast.Dict))]
+                    self.assertLessEqual(len(inner), 1, (name, node.lineno))
+
+    def test_locals_have_names_of_their_own(self):
+        for name, tree in trees().items():
+            taken = {alias.name for node in tree.body if isinstance(node, ast.ImportFrom) for alias in node.names}
+            taken |= {node.name for node in tree.body if isinstance(node, (ast.ClassDef, ast.FunctionDef))}
+            taken |= set(dir(builtins))
+            for made in [node for node in ast.walk(tree) if isinstance(node, (ast.FunctionDef, ast.Lambda))]:
+                words = set(parameters(made))
+                words |= {part.id for part in ast.walk(made)
+                          if isinstance(part, ast.Name) and isinstance(part.ctx, ast.Store)}
+                self.assertEqual(words & taken, set(), (name, made.lineno))
+
+    def test_names_that_are_not_used(self):
+        for name, node in nodes(ast.Name):
+            self.assertNotIn(node.id, PLAIN_NAMES_OUT, (name, node.lineno))
+        for name, node in nodes(ast.Attribute):
+            self.assertNotRegex(node.attr, r"\A(f|tb|co|gi|cr|ag)_", (name, node.lineno))
+
+    def test_walked_at_once(self):
+        for name, tree in trees().items():
+            at_once = set()
+            for node in ast.walk(tree):
+                if isinstance(node, (ast.For, ast.comprehension)):
+                    at_once.add(node.iter)
+                if isinstance(node, ast.Call) and isinstance(node.func, ast.Name) and node.func.id in WALKERS:
+                    at_once |= set(node.args if node.func.id == "zip" else node.args[:1])
+            for node in ast.walk(tree):
+                if isinstance(node, ast.Call):
+                    word = getattr(node.func, "id", getattr(node.func, "attr", ""))
+                    if word in WALKED:
+                        self.assertIn(node, at_once, (name, node.lineno))
+
+    def test_what_is_walked_is_not_changed(self):
+        for name, node in nodes(ast.For):
+            walked = {part.id for part in ast.walk(node.iter) if isinstance(part, ast.Name)}
+            for part in [inner for row in node.body for inner in ast.walk(row)]:
+                if isinstance(part, ast.Call) and isinstance(part.func, ast.Attribute):
+                    if part.func.attr in ("append", "extend", "insert", "pop", "remove", "clear", "update", "reverse"):
+                        self.assertNotIn(getattr(part.func.value, "id", None), walked, (name, part.lineno))
+                if isinstance(part, ast.Subscript) and isinstance(part.ctx, ast.Store):
+                    self.assertNotIn(getattr(part.value, "id", None), walked, (name, part.lineno))
+
+    def test_no_sets(self):
+        for name, node in nodes((ast.Set, ast.Name)):
+            self.assertNotIn(getattr(node, "id", "set"), ("set", "frozenset"), (name, node.lineno))
+
+    def test_keywords(self):
+        for name, node in nodes(ast.Call):
+            if node.keywords and isinstance(node.func, ast.Name) and node.func.id in dir(builtins):
+                for keyword in node.keywords:
+                    self.assertIn(keyword.arg, KEYWORDS.get(node.func.id, ()), (name, node.lineno))
+
+    def test_methods_are_called_where_they_stand(self):
+        methods = {part.name for _, node in nodes(ast.ClassDef) for part in node.body
+                   if isinstance(part, ast.FunctionDef)}
+        for name, tree in trees().items():
+            called = {node.func for node in ast.walk(tree) if isinstance(node, ast.Call)}
+            for node in ast.walk(tree):
+                if isinstance(node, ast.Attribute) and node.attr in methods | OWN_METHODS - VALUES_IN:
+                    self.assertIn(node, called, (name, node.lineno))
+
+    def test_own_methods_and_values_have_free_names(self):
+        python = {word for thing in ("", 0, [], {}, set(), b"", ()) for word in dir(thing)}
+        for name, node in nodes(ast.ClassDef):
+            for part in node.body:
+                if isinstance(part, ast.FunctionDef) and part.name not in DOUBLE_METHODS:
+                    self.assertNotIn(part.name, python - OWN_METHODS - {"add", "discard"}, name)
+        for name, node in nodes(ast.Attribute):
+            if isinstance(node.ctx, ast.Store):
+                self.assertNotIn(node.attr, (python - VALUES_IN) | VALUES_OUT, (name, node.lineno))
+
+    def test_errors_are_raised_on_the_spot_and_taken_by_name(self):
+        for name, node in nodes(ast.Raise):
+            self.assertIsInstance(node.exc, ast.Call, (name, node.lineno))
+        for name, node in nodes(ast.ExceptHandler):
+            self.assertIsInstance(node.type, ast.Name, (name, node.lineno))
+            self.assertNotIn(node.type.id, ("Exception", "TypeError", "ValueError", "LookupError", "IndexError"))
+
+    def test_no_annotations(self):
+        for name, node in nodes(ast.FunctionDef):
+            self.assertIsNone(node.returns, (name, node.lineno))
+            self.assertEqual([one.annotation for one in node.args.args if one.annotation], [], (name, node.lineno))
+
+    def test_texts(self):
+        for name, node in nodes(ast.Constant):
+            if isinstance(node.value, str):
+                self.assertNotIn("%", node.value, (name, node.lineno))
+                self.assertRegex(node.value, r"\A[\n\t -~]*\Z", (name, node.lineno))
+        for name in trees():
+            self.assertNotRegex(source(name), r"\\[^nt\\'\"]", name)
+
+    def test_init_gives_back_nothing(self):
+        for name, node in nodes(ast.FunctionDef):
+            if node.name == "__init__":
+                self.assertEqual([part for part in ast.walk(node) if isinstance(part, ast.Return)], [], name)
 
 
 if __name__ == "__main__":
