@@ -61,3 +61,15 @@ def mask_in(text):
 
 def words_of(row):
     return row.split(" ")
+
+
+# Masks of one width laid behind one another, the first one lowest.
+def packed(masks, width):
+    whole = 0
+    for place, mask in enumerate(masks):
+        whole = whole ^ (mask << (place * width))
+    return whole
+
+
+def unpacked(whole, width, count):
+    return [(whole >> (place * width)) & ((1 << width) - 1) for place in range(count)]

@@ -287,6 +287,23 @@ class WordsTest(Asking):
         self.assertEqual(words.words_of(row="a b"), ["a", "b"])
 
 
+class PackedTest(Asking):
+    def test_masks_of_one_width_behind_one_another(self):
+        self.assertEqual(words.packed([1, 2, 3], 2), 0b111001)
+        self.assertEqual(words.unpacked(0b111001, 2, 3), [1, 2, 3])
+        self.assertEqual(words.packed([], 5), 0)
+        self.assertEqual(words.unpacked(0, 5, 0), [])
+
+    def test_no_width(self):
+        self.assertEqual(words.packed([0, 0], 0), 0)
+        self.assertEqual(words.unpacked(0, 0, 3), [0, 0, 0])
+
+    def test_there_and_back(self):
+        for width in (1, 6, 64):
+            masks = [number * 7 % 2 ** width for number in range(40)]
+            self.assertEqual(words.unpacked(words.packed(masks, width), width, 40), masks)
+
+
 class SameAnswerTest(Asking):
     def test_each_question_twice(self):
         questions = [
