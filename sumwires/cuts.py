@@ -1,28 +1,23 @@
 """A wire cut, and whether it shows."""
 
 from sumwires.alike import compared
-from sumwires.errors import BadName, Doubled, TooMany
-from sumwires.nets import MOST_SUMS, Net
+from sumwires.errors import BadName, Doubled
+from sumwires.nets import Net
 from sumwires.tables import table_of
 from sumwires.words import is_name
-
-
-def check_room(net):
-    if len(net.sum_rows()) >= MOST_SUMS:
-        raise TooMany("a net has at most forty sums")
 
 
 def put_for(wires, wire, fresh):
     return [fresh if other == wire else other for other in wires]
 
 
+# Where there is no room for one sum more, the new net refuses it with TooMany.
 def cut(net, wire, fresh):
     net.wire_of(wire)
     if not is_name(fresh):
         raise BadName(fresh)
     if fresh in net.wire_names():
         raise Doubled(fresh)
-    check_room(net)
     sums = [(row[0], put_for(row[1], wire, fresh)) for row in net.sum_rows()]
     sums.append((fresh, []))
     stores = [(row[0], put_for([row[1]], wire, fresh)[0]) for row in net.store_rows()]
@@ -37,6 +32,4 @@ def free_name(net):
 
 
 def cut_shown(net, wire):
-    net.wire_of(wire)
-    check_room(net)
     return compared(table_of(net), table_of(cut(net, wire, free_name(net))))

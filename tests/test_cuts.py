@@ -151,12 +151,13 @@ class ShownTest(Refusals):
     def test_names_that_the_net_has_already(self):
         shapes = ["c%d", "z%d", "cut%d", "x%d", "n%d", "f%d", "w%d", "zero%d", "new%d", "o%d", "k%d"]
         for shape in shapes:
-            names = [shape % number for number in range(61)]
-            names[50:52] = ["cut", "fresh"]
-            sums = [(name, [names[0]]) for name in names[6:45]]
-            lists = (names[:6], sums, [(name, names[0]) for name in names[45:]], [names[6]])
-            self.assertEqual(self.holds(lists, names[0]), "apart")
-            self.assertEqual(self.holds(lists, names[50]), "alike")
+            for others in ([], ["cut", "fresh", "c", "z"]):
+                names = [shape % number for number in range(61)]
+                names[50:50 + len(others)] = others
+                sums = [(name, [names[0]]) for name in names[6:45]]
+                lists = (names[:6], sums, [(name, names[0]) for name in names[45:]], [names[6]])
+                self.assertEqual(self.holds(lists, names[0]), "apart")
+                self.assertEqual(self.holds(lists, names[50]), "alike")
 
     def test_refused(self):
         for thing in THINGS + LISTS + ["c", "zz"]:

@@ -126,6 +126,22 @@ class FormsTest(Asking):
             for place in range(len(row) + 1):
                 self.no_form(desk, row[:place] + " " + row[place:])
 
+    def test_odd_signs(self):
+        desk = Desk(TEXT)
+        for sign in [chr(number) for number in range(32, 127)]:
+            if sign not in "01":
+                for row in ("turn 1", "turn ", "run 10 1", "come 0", "apart 10 1"):
+                    self.no_form(desk, row + sign + ("" if row != "turn " else "0"))
+            if sign not in "0123456789":
+                for row in ("misses 1%s", "misses %s1", "misses %s", "bring 10 1%s", "bring 10 %s"):
+                    self.no_form(desk, row % sign)
+
+    def test_words_of_great_length(self):
+        desk = Desk(TEXT)
+        for row in ("misses " + "1" * 5000, "misses " + "0" * 5000, "bring 10 " + "3" * 5000, "turn " + "1" * 5000,
+                    "come " + "0" * 5000, "wire " + "a" * 5000, "a" * 20000, "run " + "1" * 65, "apart 10 " + "1" * 65):
+            self.no_form(desk, row)
+
     def test_widths_0(self):
         desk = Desk("")
         self.says(desk, "turn -", "-")
