@@ -75,7 +75,7 @@ def brought(machine, start, wish, turns):
     return found
 
 
-def check_masks_heard(rows, width):
+def check_list(rows, width):
     if not isinstance(rows, list) or len(rows) > MOST_HEARD:
         raise BadRow("this is no list of at most 40")
     if not all([is_mask(row, width) for row in rows]):
@@ -87,9 +87,9 @@ def looks_of(mask, outs):
 
 
 def fits(machine, rows, answers):
-    check_masks_heard(rows, machine.inputs)
+    check_list(rows, machine.inputs)
     outs = machine.outputs()
-    check_masks_heard(answers, outs)
+    check_list(answers, outs)
     if len(answers) != len(rows):
         raise BadRow("there are not as many answers as input rows")
     # What each store by itself adds to the answers, and what is left for them.
